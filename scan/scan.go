@@ -18,6 +18,8 @@ const (
 	SmallLetters = "abcdefghijklmnopqrstuvwxyz"
 	// BehindFirst is what a name may have behind its first letter, beside letters.
 	BehindFirst = digits + "_"
+	// PartMark stands between the parts of a name that has several.
+	PartMark = "$"
 )
 
 // Scanner keeps the text beside its cursor: layer 2 reads a comment from the rest of it.
@@ -93,12 +95,24 @@ func (s *Scanner) Digits() string { return s.While(digits) }
 // Begins: does what is left begin with that?
 func (s *Scanner) Begins(ahead string) bool { return strings.HasPrefix(s.rest(), ahead) }
 
-// Name is the token of a name or a word that has been read.
-func (s *Scanner) Name(name string) (api.Tok, api.Errno) {
-	switch {
-	case len(name) > api.MaxName:
-		return api.Tok{}, api.ErrLong
-	case words.Is(s.dialect, name):
+// Take goes on behind that, if what is left begins with it.
+func (s *Scanner) Take(ahead string) bool {
+	if !s.Begins(ahead) {
+		return false
+	}
+	s.Skip(len(ahead))
+	return true
+}
+
+// Name is the token of a name or a word whose parts have been read: each of them may be as long as a name.
+func (s *Scanner) Name(parts ...string) (api.Tok, api.Errno) {
+	for _, part := range parts {
+		if len(part) > api.MaxName {
+			return api.Tok{}, api.ErrLong
+		}
+	}
+	name := strings.Join(parts, PartMark)
+	if words.Is(s.dialect, name) {
 		return api.Tok{Kind: api.TokWord, Text: name}, api.OK
 	}
 	return api.Tok{Kind: api.TokName, Text: name}, api.OK

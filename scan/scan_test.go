@@ -47,6 +47,39 @@ func TestNameIsAWordOfItsDialect(t *testing.T) {
 	}
 }
 
+func TestNameOfParts(t *testing.T) {
+	most := strings.Repeat("a", api.MaxName)
+	x := New(api.Cee, "")
+	for _, c := range []struct {
+		parts []string
+		want  string
+	}{{[]string{"f", "g"}, "f$g"}, {[]string{"int", "int"}, "int$int"}, {[]string{most, most, most}, most + "$" + most + "$" + most}} {
+		if tok, e := x.Name(c.parts...); e != api.OK || tok != (api.Tok{Kind: api.TokName, Text: c.want}) {
+			t.Fatalf("%q: %v, %d", c.parts, tok, e)
+		}
+	}
+	for i := range 3 {
+		parts := []string{"f", most, "g"}
+		parts[i] = most + "a"
+		if tok, e := x.Name(parts...); e != api.ErrLong || tok != (api.Tok{}) {
+			t.Fatalf("%q: %v, %d", parts, tok, e)
+		}
+	}
+}
+
+func TestTakeMovesIfItFits(t *testing.T) {
+	x := New(api.Cee, "a$b")
+	for _, c := range []struct {
+		ahead string
+		took  bool
+		at    int
+	}{{"b", false, 0}, {"a$c", false, 0}, {"a$bc", false, 0}, {"", true, 0}, {"a$", true, 2}, {"b", true, 3}, {"b", false, 3}} {
+		if got := x.Take(c.ahead); got != c.took || x.Pos().At != c.at {
+			t.Fatalf("Take(%q): %v, at %v", c.ahead, got, x.Pos())
+		}
+	}
+}
+
 func TestQuotedLeavesOutWhatIsSpecial(t *testing.T) {
 	for n := range 256 {
 		s := string([]byte{'\'', byte(n), '\''})
