@@ -1,0 +1,92 @@
+// Package tokens is what the readers of both dialects have in common: it stands embedded in each of them.
+package tokens
+
+import (
+	"slices"
+
+	"pantograph/api"
+)
+
+// Reader goes through tokens as far as the first one that may not stand where it does.
+type Reader struct {
+	list  []api.Tok
+	at    int
+	fault api.Diag
+}
+
+func New(list []api.Tok, at int) *Reader {
+	return &Reader{list: list, at: at}
+}
+
+// Next is the token that is to be read. Behind a fault it is the end: so whoever reads on takes nothing more, and need not ask.
+func (r *Reader) Next() api.Tok {
+	if r.fault.Code == api.OK && 0 <= r.at && r.at < len(r.list) {
+		return r.list[r.at]
+	}
+	return r.end()
+}
+
+// end is the token in place of one that isn't there.
+func (r *Reader) end() api.Tok {
+	t := api.Tok{Kind: api.TokEnd}
+	if len(r.list) > 0 {
+		t.Pos = r.list[len(r.list)-1].Pos
+	}
+	return t
+}
+
+// At is the place of the token that is to be read.
+func (r *Reader) At() int { return r.at }
+
+// Take goes on behind a word or a sign that is one of texts: which one it is, or an empty text.
+func (r *Reader) Take(texts ...string) string {
+	t := r.Next()
+	if t.Kind != api.TokWord && t.Kind != api.TokSign || !slices.Contains(texts, t.Text) {
+		return ""
+	}
+	r.at++
+	return t.Text
+}
+
+// TakeKind goes on behind a token of that kind.
+func (r *Reader) TakeKind(kind int) (api.Tok, bool) {
+	t := r.Next()
+	if t.Kind != kind {
+		return api.Tok{}, false
+	}
+	r.at++
+	return t, true
+}
+
+// Need is Take where one of texts must stand.
+func (r *Reader) Need(texts ...string) string {
+	text := r.Take(texts...)
+	if text == "" {
+		r.Refuse()
+	}
+	return text
+}
+
+// NeedName reads a name where one must stand.
+func (r *Reader) NeedName() string {
+	t, ok := r.TakeKind(api.TokName)
+	if !ok {
+		r.Refuse()
+	}
+	return t.Text
+}
+
+// Refuse: the token that is to be read may not stand there. What is refused behind the first fault is none of its own.
+func (r *Reader) Refuse() {
+	if r.fault.Code != api.OK {
+		return
+	}
+	t := r.Next()
+	r.fault = api.Diag{Code: api.ErrToken, Pos: t.Pos}
+	if t.Kind == api.TokNote {
+		r.fault.Code = api.ErrPlace
+	}
+}
+
+// Fault is the first one, or no Diag.
+func (r *Reader) Fault() api.Diag { return r.fault }
