@@ -385,6 +385,21 @@ func TestDeepTexts(t *testing.T) {
 	wantUnread(t, s, api.ErrDeep, 0)
 }
 
+// More tokens than a text has: signs beside each other are a tree as deep as there are tokens.
+func TestLongRowsOfTokens(t *testing.T) {
+	const count = 1 << 20
+	l := make([]api.Tok, 0, 2*count+1)
+	for range count {
+		l = append(l, api.Tok{Kind: api.TokName, Text: "a"}, api.Tok{Kind: api.TokSign, Text: "-"})
+	}
+	wantFault(t, Parse, l, 0, api.ErrToken, api.Pos{})
+	place := api.Pos{At: 7, Line: 7, Col: 7}
+	l = append(l, api.Tok{Kind: api.TokName, Text: "a"})
+	l[0].Pos = place
+	wantFault(t, Parse, l, 0, api.ErrDeep, place)
+	wantFrom(t, Parse, l, 2*count, a, 2*count+1)
+}
+
 func TestWhichFaultIsTold(t *testing.T) {
 	long := "f(" + strings.Repeat("1,", api.MaxItems) + "1)"
 	deep := strings.Repeat("not ", api.MaxDepth) + "a"

@@ -2,18 +2,18 @@ package exprpas
 
 import (
 	"pantograph/api"
-	"pantograph/tokens"
+	"pantograph/expr"
 )
 
-// reader has all of a reader of tokens. Behind a fault it reads what is not there: whoever asks it looks for the fault first.
+// reader has all of what both dialects read alike, and in it of a reader of tokens.
 type reader struct {
-	*tokens.Reader
+	expr.Reader
 }
 
 func (x reader) expr() api.Expr {
 	e := x.simple()
 	if op := x.operation("=", "<>", "<", "<=", ">", ">="); op != none {
-		e = apply(op, e, x.simple())
+		e = expr.Of(op, e, x.simple())
 	}
 	return e
 }
@@ -27,7 +27,7 @@ func (x reader) first() api.Expr {
 	if x.Take("-") == "" {
 		return x.term()
 	}
-	return apply(api.ExNeg, x.term())
+	return expr.Of(api.ExNeg, x.term())
 }
 
 func (x reader) term() api.Expr {
@@ -41,7 +41,7 @@ func (x reader) row(e api.Expr, operand func(reader) api.Expr, some ...string) a
 		if op == none {
 			return e
 		}
-		e = apply(op, e, operand(x))
+		e = expr.Of(op, e, operand(x))
 	}
 }
 
@@ -57,14 +57,10 @@ func (x reader) operation(some ...string) int {
 	return operationOf(sign)
 }
 
-func apply(op int, operands ...api.Expr) api.Expr {
-	return api.Expr{Op: op, L: operands}
-}
-
 func (x reader) factor() api.Expr {
 	switch {
 	case x.Take("not") != "":
-		return apply(api.ExNot, x.factor())
+		return expr.Of(api.ExNot, x.factor())
 	case x.Take("(") != "":
 		e := x.expr()
 		x.Need(")")
@@ -72,23 +68,7 @@ func (x reader) factor() api.Expr {
 	case x.Next().Kind == api.TokName:
 		return x.named()
 	}
-	return x.constant()
-}
-
-func (x reader) constant() api.Expr {
-	if t, ok := x.TakeKind(api.TokInt); ok {
-		return api.Expr{Op: api.ExInt, N: t.N}
-	}
-	if t, ok := x.TakeKind(api.TokChar); ok {
-		return api.Expr{Op: api.ExChar, N: t.N}
-	}
-	for n, word := range truths {
-		if x.Take(word) != "" {
-			return api.Expr{Op: api.ExBool, N: int64(n)}
-		}
-	}
-	x.Refuse()
-	return api.Expr{}
+	return x.Constant()
 }
 
 func (x reader) named() api.Expr {

@@ -76,15 +76,20 @@ func (r *Reader) NeedName() string {
 	return t.Text
 }
 
-// Refuse: the token that is to be read may not stand there. What is refused behind the first fault is none of its own.
+// Refuse: the token that is to be read may not stand there.
 func (r *Reader) Refuse() {
-	if r.fault.Code != api.OK {
-		return
-	}
 	t := r.Next()
-	r.fault = api.Diag{Code: api.ErrToken, Pos: t.Pos}
+	code := api.ErrToken
 	if t.Kind == api.TokNote {
-		r.fault.Code = api.ErrPlace
+		code = api.ErrPlace
+	}
+	r.Fail(code, t.Pos)
+}
+
+// Fail tells what is wrong. What fails behind the first fault is none of its own.
+func (r *Reader) Fail(code api.Errno, place api.Pos) {
+	if r.fault.Code == api.OK {
+		r.fault = api.Diag{Code: code, Pos: place}
 	}
 }
 

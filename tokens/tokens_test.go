@@ -136,6 +136,22 @@ func TestNeedName(t *testing.T) {
 	}
 }
 
+func TestFail(t *testing.T) {
+	r := New(some(), 2)
+	r.Fail(api.ErrName, api.Pos{At: 1, Col: 1})
+	wantFault(t, r, api.ErrName, 1)
+	if r.At() != 2 || r.Next().Kind != api.TokEnd || r.Take("x") != "" {
+		t.Fatal("something was taken")
+	}
+	r.Fail(api.ErrDeep, api.Pos{At: 9, Col: 9})
+	r.Refuse()
+	wantFault(t, r, api.ErrName, 1)
+	r = New(some(), 2)
+	r.Refuse()
+	r.Fail(api.ErrName, api.Pos{At: 1, Col: 1})
+	wantFault(t, r, api.ErrToken, 4)
+}
+
 // Behind a fault nothing is taken, and the first fault stays.
 func TestBehindAFault(t *testing.T) {
 	for at, token := range some() {
