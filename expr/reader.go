@@ -101,8 +101,8 @@ func Read(s string, lex func(string) ([]api.Tok, api.Diag), parse func([]api.Tok
 		return api.Expr{}, d
 	}
 	behind := tokens.New(l, next)
-	if behind.Next().Kind != api.TokEnd {
-		behind.Refuse()
+	behind.NeedEnd()
+	if behind.Failed() {
 		return api.Expr{}, behind.Fault()
 	}
 	return e, api.Diag{}

@@ -20,7 +20,7 @@ func New(list []api.Tok, at int) *Reader {
 
 // Next is the token that is to be read. Behind a fault it is the end: so whoever reads on takes nothing more, and need not ask.
 func (r *Reader) Next() api.Tok {
-	if r.fault.Code == api.OK && 0 <= r.at && r.at < len(r.list) {
+	if !r.Failed() && 0 <= r.at && r.at < len(r.list) {
 		return r.list[r.at]
 	}
 	return r.end()
@@ -38,14 +38,20 @@ func (r *Reader) end() api.Tok {
 // At is the place of the token that is to be read.
 func (r *Reader) At() int { return r.at }
 
+// Is: is what is to be read a word or a sign that is one of texts?
+func (r *Reader) Is(texts ...string) bool {
+	t := r.Next()
+	return (t.Kind == api.TokWord || t.Kind == api.TokSign) && slices.Contains(texts, t.Text)
+}
+
 // Take goes on behind a word or a sign that is one of texts: which one it is, or an empty text.
 func (r *Reader) Take(texts ...string) string {
-	t := r.Next()
-	if t.Kind != api.TokWord && t.Kind != api.TokSign || !slices.Contains(texts, t.Text) {
+	if !r.Is(texts...) {
 		return ""
 	}
+	text := r.Next().Text
 	r.at++
-	return t.Text
+	return text
 }
 
 // TakeKind goes on behind a token of that kind.
@@ -67,13 +73,44 @@ func (r *Reader) Need(texts ...string) string {
 	return text
 }
 
+// NeedRow is Need of each of texts, one behind the other.
+func (r *Reader) NeedRow(texts ...string) {
+	for _, text := range texts {
+		r.Need(text)
+	}
+}
+
 // NeedName reads a name where one must stand.
-func (r *Reader) NeedName() string {
-	t, ok := r.TakeKind(api.TokName)
+func (r *Reader) NeedName() string { return r.NeedKind(api.TokName).Text }
+
+// NeedKind is TakeKind where such a token must stand.
+func (r *Reader) NeedKind(kind int) api.Tok {
+	t, ok := r.TakeKind(kind)
 	if !ok {
 		r.Refuse()
 	}
-	return t.Text
+	return t
+}
+
+// NeedExpr goes on behind an expression where one must stand, by the call that reads it.
+func (r *Reader) NeedExpr(read func([]api.Tok, int) (api.Expr, int, api.Diag)) api.Expr {
+	if r.Failed() {
+		return api.Expr{}
+	}
+	e, next, d := read(r.list, r.at)
+	if d.Code != api.OK {
+		r.Fail(d.Code, d.Pos)
+		return api.Expr{}
+	}
+	r.at = next
+	return e
+}
+
+// NeedEnd: here nothing may follow.
+func (r *Reader) NeedEnd() {
+	if r.Next().Kind != api.TokEnd {
+		r.Refuse()
+	}
 }
 
 // Refuse: the token that is to be read may not stand there.
@@ -88,10 +125,13 @@ func (r *Reader) Refuse() {
 
 // Fail tells what is wrong. What fails behind the first fault is none of its own.
 func (r *Reader) Fail(code api.Errno, place api.Pos) {
-	if r.fault.Code == api.OK {
+	if !r.Failed() {
 		r.fault = api.Diag{Code: code, Pos: place}
 	}
 }
+
+// Failed: is there a fault?
+func (r *Reader) Failed() bool { return r.fault.Code != api.OK }
 
 // Fault is the first one, or no Diag.
 func (r *Reader) Fault() api.Diag { return r.fault }

@@ -115,6 +115,124 @@ func TestNeed(t *testing.T) {
 	}
 }
 
+func TestIs(t *testing.T) {
+	for at, token := range some() {
+		r := New(some(), at)
+		word := token.Kind == api.TokWord || token.Kind == api.TokSign
+		if r.Is("y", "x") != word || r.Is("x") != word || r.Is("y") || r.Is() || r.At() != at || r.Fault() != (api.Diag{}) {
+			t.Fatal(token)
+		}
+	}
+	r := New(some(), 1)
+	r.Refuse()
+	if r.Is("x") || r.Is("") {
+		t.Fatal("is something behind a fault")
+	}
+}
+
+func TestNeedRow(t *testing.T) {
+	l := []api.Tok{tok(api.TokWord, "x", 0, 0), tok(api.TokSign, "y", 0, 2), tok(api.TokNote, "z", 0, 4), tok(api.TokEnd, "", 0, 6)}
+	for _, x := range []struct {
+		texts []string
+		at    int
+		code  api.Errno
+	}{
+		{nil, 0, api.OK}, {[]string{"x"}, 1, api.OK}, {[]string{"x", "y"}, 2, api.OK}, {[]string{"y"}, 0, api.ErrToken}, {[]string{"x", "x"}, 1, api.ErrToken},
+		{[]string{"y", "x", "y"}, 0, api.ErrToken}, {[]string{"x", "y", "z"}, 2, api.ErrPlace}, {[]string{"x", "z", "y", "z"}, 1, api.ErrToken},
+	} {
+		r := New(l, 0)
+		r.NeedRow(x.texts...)
+		if r.At() != x.at {
+			t.Fatalf("%q: at %d", x.texts, r.At())
+		}
+		if x.code == api.OK {
+			if r.Fault() != (api.Diag{}) {
+				t.Fatal(x.texts, r.Fault())
+			}
+			continue
+		}
+		wantFault(t, r, x.code, 2*x.at)
+	}
+}
+
+func TestNeedKind(t *testing.T) {
+	for at, token := range some() {
+		for kind := api.TokName; kind <= api.TokNote; kind++ {
+			r := New(some(), at)
+			got := r.NeedKind(kind)
+			switch {
+			case kind == token.Kind:
+				if got != token || r.At() != at+1 || r.Fault() != (api.Diag{}) {
+					t.Fatal(token, got)
+				}
+				continue
+			case token.Kind == api.TokNote:
+				wantFault(t, r, api.ErrPlace, token.Pos.At)
+			default:
+				wantFault(t, r, api.ErrToken, token.Pos.At)
+			}
+			if got != (api.Tok{}) || r.At() != at {
+				t.Fatal(token, got)
+			}
+		}
+	}
+}
+
+func TestNeedExpr(t *testing.T) {
+	want := api.Expr{Op: api.ExVar, Name: "x"}
+	calls := 0
+	read := func(next int, d api.Diag) func([]api.Tok, int) (api.Expr, int, api.Diag) {
+		return func(l []api.Tok, at int) (api.Expr, int, api.Diag) {
+			calls++
+			if !slices.Equal(l, some()) || at != 2 {
+				t.Fatal(l, at)
+			}
+			return want, next, d
+		}
+	}
+	r := New(some(), 2)
+	if e := r.NeedExpr(read(5, api.Diag{})); e.Name != "x" || r.At() != 5 || r.Failed() {
+		t.Fatal(e, r.At())
+	}
+	r = New(some(), 2)
+	place := api.Pos{At: 8, Col: 8}
+	if e := r.NeedExpr(read(5, api.Diag{Code: api.ErrDeep, Pos: place})); e.Op != 0 || r.At() != 2 {
+		t.Fatal(e, r.At())
+	}
+	wantFault(t, r, api.ErrDeep, 8)
+	// Behind a fault nobody is asked.
+	calls = 0
+	if e := r.NeedExpr(read(5, api.Diag{})); e.Op != 0 || calls != 0 || r.At() != 2 {
+		t.Fatal(e, calls)
+	}
+	wantFault(t, r, api.ErrDeep, 8)
+}
+
+func TestNeedEnd(t *testing.T) {
+	for at, token := range some() {
+		r := New(some(), at)
+		r.NeedEnd()
+		switch token.Kind {
+		case api.TokEnd:
+			if r.Fault() != (api.Diag{}) {
+				t.Fatal(r.Fault())
+			}
+		case api.TokNote:
+			wantFault(t, r, api.ErrPlace, token.Pos.At)
+		default:
+			wantFault(t, r, api.ErrToken, token.Pos.At)
+		}
+	}
+	r := New(some(), 9)
+	if r.NeedEnd(); r.Failed() {
+		t.Fatal(r.Fault())
+	}
+	r = New(some(), 1)
+	r.Fail(api.ErrName, api.Pos{})
+	r.NeedEnd()
+	wantFault(t, r, api.ErrName, 0)
+}
+
 func TestNeedName(t *testing.T) {
 	for at, token := range some() {
 		r := New(some(), at)
@@ -138,9 +256,12 @@ func TestNeedName(t *testing.T) {
 
 func TestFail(t *testing.T) {
 	r := New(some(), 2)
+	if r.Failed() {
+		t.Fatal("failed ahead of a fault")
+	}
 	r.Fail(api.ErrName, api.Pos{At: 1, Col: 1})
 	wantFault(t, r, api.ErrName, 1)
-	if r.At() != 2 || r.Next().Kind != api.TokEnd || r.Take("x") != "" {
+	if !r.Failed() || r.At() != 2 || r.Next().Kind != api.TokEnd || r.Take("x") != "" {
 		t.Fatal("something was taken")
 	}
 	r.Fail(api.ErrDeep, api.Pos{At: 9, Col: 9})
