@@ -1,11 +1,8 @@
 package exprcee
 
 import (
-	"strings"
-
 	"pantograph/api"
 	"pantograph/expr"
-	"pantograph/scan"
 )
 
 // reader has all of what both dialects read alike, and in it of a reader of tokens.
@@ -56,34 +53,21 @@ func (x reader) factor() api.Expr {
 
 // named looks for a call first: all else that begins with a name has one without parts.
 func (x reader) named() api.Expr {
-	place := x.Next().Pos
-	name := x.NeedName()
+	t := x.NeedKind(api.TokName)
+	name := t.Text
 	if x.Take("(") != "" {
 		return api.Expr{Op: api.ExCall, Name: name, L: x.operands()}
 	}
-	x.refuseParts(name, place)
+	x.RefuseParts(t)
 	switch x.Take("[", ".") {
 	case "[":
 		e := x.expr()
 		x.Need("]")
 		return api.Expr{Op: api.ExIndex, Name: name, L: []api.Expr{e}}
 	case ".":
-		return api.Expr{Op: api.ExField, Name: name, Field: x.plainName()}
+		return api.Expr{Op: api.ExField, Name: name, Field: x.NeedPlain()}
 	}
 	return api.Expr{Op: api.ExVar, Name: name}
-}
-
-func (x reader) plainName() string {
-	place := x.Next().Pos
-	name := x.NeedName()
-	x.refuseParts(name, place)
-	return name
-}
-
-func (x reader) refuseParts(name string, place api.Pos) {
-	if strings.Contains(name, scan.PartMark) {
-		x.Fail(api.ErrName, place)
-	}
 }
 
 // operands are those of a call, whose ( has been taken. Behind an up stand such ones alone.
@@ -118,5 +102,5 @@ func (x reader) up() api.Expr {
 
 // captured is what stands behind the word up.
 func (x reader) captured() api.Expr {
-	return api.Expr{Op: api.ExUp, Name: x.plainName()}
+	return api.Expr{Op: api.ExUp, Name: x.NeedPlain()}
 }

@@ -1,53 +1,56 @@
 package parsepas
 
-import "pantograph/api"
+import (
+	"pantograph/api"
+	"pantograph/parse"
+)
 
-func (x *reader) program() api.Program {
-	p := api.Program{Before: x.comments().texts}
+func (x reader) program() api.Program {
+	p := api.Program{Before: x.Comments().Texts}
 	x.Need("program")
 	p.Name = x.NeedName()
 	x.Need(";")
-	ahead := x.comments()
-	p.Recs, ahead = row(x, ahead, "type", x.record)
-	p.Vars, ahead = row(x, ahead, "var", x.variable)
+	ahead := x.Comments()
+	p.Recs, ahead = parse.Row(x.Reader, ahead, x.On("type"), x.record)
+	p.Vars, ahead = parse.Row(x.Reader, ahead, x.On("var"), x.variable)
 	p.Routines, ahead = x.routines(ahead, 1)
-	p.Mid = ahead.texts
+	p.Mid = ahead.Texts
 	x.Need("begin")
 	p.Body, p.End = x.stmts(1, "end")
 	x.Need(".")
-	p.After = x.comments().texts
+	p.After = x.Comments().Texts
 	x.NeedEnd()
 	return p
 }
 
-func (x *reader) record(before []string) api.Rec {
-	x.item()
+func (x reader) record(before []string) api.Rec {
+	x.Item(x.Next().Pos)
 	x.Need("type")
 	r := api.Rec{Name: x.NeedName()}
 	x.NeedRow("=", "record")
-	r.Fields, r.End = closed(x, 1, "end", x.field)
+	r.Fields, r.End = parse.Closed(x.Reader, x.Comments(), 1, "end", x.field)
 	x.Need(";")
-	r.Marks = x.marks(before)
+	r.Marks = x.Marks(before)
 	return r
 }
 
-func (x *reader) field(before []string) api.Field {
+func (x reader) field(before []string) api.Field {
 	f := api.Field{Name: x.NeedName()}
 	x.Need(":")
 	f.Kind = x.scalar()
 	x.Need(";")
-	f.Marks = x.marks(before)
+	f.Marks = x.Marks(before)
 	return f
 }
 
-func (x *reader) variable(before []string) api.Var {
-	x.item()
+func (x reader) variable(before []string) api.Var {
+	x.Item(x.Next().Pos)
 	x.Need("var")
 	v := api.Var{Name: x.NeedName()}
 	x.Need(":")
 	v.T = x.anyType()
 	x.Need(";")
-	v.Marks = x.marks(before)
+	v.Marks = x.Marks(before)
 	return v
 }
 
@@ -56,11 +59,11 @@ func scalars() map[string]int {
 	return map[string]int{"integer": api.KindInt, "boolean": api.KindBool, "char": api.KindChar}
 }
 
-func (x *reader) scalar() int {
+func (x reader) scalar() int {
 	return scalars()[x.Need("integer", "boolean", "char")]
 }
 
-func (x *reader) anyType() api.Type {
+func (x reader) anyType() api.Type {
 	if t, ok := x.TakeKind(api.TokName); ok {
 		return api.Type{Kind: api.KindRec, Name: t.Text}
 	}
@@ -68,15 +71,7 @@ func (x *reader) anyType() api.Type {
 		return api.Type{Kind: x.scalar()}
 	}
 	x.Need("[")
-	size := x.size()
+	size := x.NeedSize()
 	x.NeedRow("]", "of")
 	return api.Type{Kind: x.scalar(), Size: size}
-}
-
-func (x *reader) size() int {
-	t := x.NeedKind(api.TokInt)
-	if t.N < 1 || t.N > api.MaxSize {
-		x.Fail(api.ErrNumber, t.Pos)
-	}
-	return int(t.N)
 }

@@ -1,114 +1,51 @@
 package parsepas
 
 import (
-	"slices"
-
 	"pantograph/api"
+	"pantograph/parse"
 )
 
-// heading is how a routine begins; at is the place of its name.
-type heading struct {
-	api.Routine
-	at api.Pos
-}
-
-func (h heading) same(other heading) bool {
-	return h.Result == other.Result && slices.Equal(h.Params, other.Params)
-}
-
-// family is one list of routines as far as it has been read: who has a name in it is told by these alone.
-type family struct {
-	*reader
-	deep    int
-	list    []api.Routine
-	forward []heading // in their order
-	ahead   map[string]heading
-	defined map[string]struct{}
-}
-
-func (x *reader) routines(ahead slot, deep int) ([]api.Routine, slot) {
-	f := &family{reader: x, deep: deep, ahead: map[string]heading{}, defined: map[string]struct{}{}}
+func (x reader) routines(ahead parse.Slot, deep int) ([]api.Routine, parse.Slot) {
+	f := x.Family()
 	for x.Is("procedure", "function") {
-		x.depth(deep)
-		x.room(len(f.list))
-		f.routine(ahead)
-		ahead = x.comments()
+		x.Depth(deep)
+		x.Room(len(f.List))
+		x.routine(f, ahead, deep)
+		ahead = x.Comments()
 	}
-	f.needDefined()
-	return f.list, ahead
+	f.NeedDefined()
+	return f.List, ahead
 }
 
-func (f *family) has(name string) bool {
-	_, ok := f.defined[name]
-	return ok
-}
-
-// needDefined: the list has ended, so no routine of a heading is still to come.
-func (f *family) needDefined() {
-	for _, h := range f.forward {
-		if !f.has(h.Name) {
-			f.Fail(api.ErrNone, h.at)
-		}
-	}
-}
-
-func (f *family) routine(ahead slot) {
-	first := f.Next().Pos
-	h := f.heading()
-	if f.Take("forward") != "" {
-		f.announce(h, ahead)
+func (x reader) routine(f *parse.Family, ahead parse.Slot, deep int) {
+	h := x.heading(ahead)
+	if x.Take("forward") != "" {
+		f.Announce(h)
+		x.Need(";")
 		return
 	}
-	f.define(h)
-	f.items = append(f.items, first)
-	f.list = append(f.list, f.behind(h, ahead.texts))
-}
-
-// announce takes a heading that stands ahead: it isn't in the tree, so no comment has a place at it.
-func (f *family) announce(h heading, ahead slot) {
-	f.forbid(ahead)
-	if _, twice := f.ahead[h.Name]; twice || f.has(h.Name) {
-		f.Fail(api.ErrTwice, h.at)
-	}
-	f.Need(";")
-	f.ahead[h.Name] = h
-	f.forward = append(f.forward, h)
-}
-
-// forbid: comments that stand nowhere in the tree are told only now, when it is seen what they stand ahead of.
-func (f *family) forbid(s slot) {
-	if len(s.texts) > 0 {
-		f.Fail(api.ErrPlace, s.first)
-	}
-}
-
-func (f *family) define(h heading) {
-	if f.has(h.Name) {
-		f.Fail(api.ErrTwice, h.at)
-	}
-	if announced, ok := f.ahead[h.Name]; ok && !announced.same(h) {
-		f.Fail(api.ErrType, h.at)
-	}
-	f.defined[h.Name] = struct{}{}
+	f.Define(h)
+	f.Add(x.behind(h, deep))
 }
 
 // behind is the routine of h, with all that stands behind its heading.
-func (f *family) behind(h heading, before []string) api.Routine {
+func (x reader) behind(h parse.Heading, deep int) api.Routine {
 	r := h.Routine
-	ahead := f.comments()
-	r.Vars, ahead = row(f.reader, ahead, "var", f.variable)
-	r.Inner, ahead = f.routines(ahead, f.deep+1)
-	f.forbid(ahead)
-	f.Need("begin")
-	r.Body, r.End = f.stmts(1, "end")
-	f.Need(";")
-	r.Marks = f.marks(before)
+	ahead := x.Comments()
+	r.Vars, ahead = parse.Row(x.Reader, ahead, x.On("var"), x.variable)
+	r.Inner, ahead = x.routines(ahead, deep+1)
+	x.Forbid(ahead)
+	x.Need("begin")
+	r.Body, r.End = x.stmts(1, "end")
+	x.Need(";")
+	r.Marks = x.Marks(h.Ahead.Texts)
 	return r
 }
 
-func (x *reader) heading() heading {
+func (x reader) heading(ahead parse.Slot) parse.Heading {
+	h := parse.Heading{Ahead: ahead, First: x.Next().Pos}
 	word := x.Need("procedure", "function")
-	h := heading{at: x.Next().Pos}
+	h.At = x.Next().Pos
 	h.Name = x.NeedName()
 	h.Params = x.params()
 	if word == "function" {
@@ -119,20 +56,20 @@ func (x *reader) heading() heading {
 	return h
 }
 
-func (x *reader) params() []api.Param {
+func (x reader) params() []api.Param {
 	if x.Take("(") == "" {
 		return nil
 	}
 	list := []api.Param{x.param()}
 	for x.Take(";") != "" {
-		x.room(len(list))
+		x.Room(len(list))
 		list = append(list, x.param())
 	}
 	x.Need(")")
 	return list
 }
 
-func (x *reader) param() api.Param {
+func (x reader) param() api.Param {
 	if x.Take("var") == "" {
 		p := api.Param{Name: x.NeedName()}
 		x.Need(":")

@@ -3,28 +3,29 @@ package parsepas
 import (
 	"pantograph/api"
 	"pantograph/exprpas"
+	"pantograph/parse"
 )
 
 // block reads statements that are so deep.
 type block struct {
-	*reader
+	reader
 	deep int
 }
 
 // stmts reads as far as the word that closes them, and that word.
-func (x *reader) stmts(deep int, word string) ([]api.Stmt, []string) {
-	return closed(x, 0, word, block{x, deep}.stmt)
+func (x reader) stmts(deep int, word string) ([]api.Stmt, []string) {
+	return parse.Closed(x.Reader, x.Comments(), 0, word, block{x, deep}.stmt)
 }
 
 // inner are the statements within one of the block.
 func (b block) inner(word string) ([]api.Stmt, []string) { return b.stmts(b.deep+1, word) }
 
 func (b block) stmt(before []string) api.Stmt {
-	b.depth(b.deep)
-	b.item()
+	b.Depth(b.deep)
+	b.Item(b.Next().Pos)
 	s := b.simple()
 	b.Need(";")
-	s.Marks = b.marks(before)
+	s.Marks = b.Marks(before)
 	return s
 }
 
@@ -51,7 +52,7 @@ func (b block) simple() api.Stmt {
 	return api.Stmt{}
 }
 
-func (x *reader) expr() api.Expr { return x.NeedExpr(exprpas.Parse) }
+func (x reader) expr() api.Expr { return x.NeedExpr(exprpas.Parse) }
 
 // named reads what begins with a name: a call is whole, all else is set.
 func (b block) named() api.Stmt {
@@ -102,18 +103,9 @@ func (b block) count() api.Stmt {
 
 func (b block) read() api.Stmt {
 	b.Need("(")
-	s := api.Stmt{Op: api.StRead, P: b.place()}
+	s := api.Stmt{Op: api.StRead, P: b.NeedPlace(exprpas.Named)}
 	b.Need(")")
 	return s
-}
-
-func (b block) place() api.Expr {
-	first := b.Next().Pos
-	e := b.NeedExpr(exprpas.Named)
-	if e.Op == api.ExCall {
-		b.Fail(api.ErrToken, first)
-	}
-	return e
 }
 
 func (b block) write() api.Stmt {

@@ -3,8 +3,10 @@ package tokens
 
 import (
 	"slices"
+	"strings"
 
 	"pantograph/api"
+	"pantograph/scan"
 )
 
 // Reader goes through tokens as far as the first one that may not stand where it does.
@@ -19,9 +21,19 @@ func New(list []api.Tok, at int) *Reader {
 }
 
 // Next is the token that is to be read. Behind a fault it is the end: so whoever reads on takes nothing more, and need not ask.
-func (r *Reader) Next() api.Tok {
-	if !r.Failed() && 0 <= r.at && r.at < len(r.list) {
-		return r.list[r.at]
+func (r *Reader) Next() api.Tok { return r.tok(r.at) }
+
+// Second is the one behind it.
+func (r *Reader) Second() api.Tok {
+	if r.at >= len(r.list) {
+		return r.end()
+	}
+	return r.tok(r.at + 1)
+}
+
+func (r *Reader) tok(at int) api.Tok {
+	if !r.Failed() && 0 <= at && at < len(r.list) {
+		return r.list[at]
 	}
 	return r.end()
 }
@@ -82,6 +94,20 @@ func (r *Reader) NeedRow(texts ...string) {
 
 // NeedName reads a name where one must stand.
 func (r *Reader) NeedName() string { return r.NeedKind(api.TokName).Text }
+
+// NeedPlain is NeedName of one without parts.
+func (r *Reader) NeedPlain() string {
+	t := r.NeedKind(api.TokName)
+	r.RefuseParts(t)
+	return t.Text
+}
+
+// RefuseParts: a name that has been read, and that stands where it may have no parts.
+func (r *Reader) RefuseParts(name api.Tok) {
+	if strings.Contains(name.Text, scan.PartMark) {
+		r.Fail(api.ErrName, name.Pos)
+	}
+}
 
 // NeedKind is TakeKind where such a token must stand.
 func (r *Reader) NeedKind(kind int) api.Tok {

@@ -3,6 +3,7 @@ package tokens
 import (
 	"math"
 	"slices"
+	"strings"
 	"testing"
 
 	"pantograph/api"
@@ -306,5 +307,63 @@ func TestListStays(t *testing.T) {
 	r.Refuse()
 	if !slices.Equal(l, some()) {
 		t.Fatal(l)
+	}
+}
+
+func TestSecond(t *testing.T) {
+	l := some()
+	for at := range l {
+		r := New(l, at)
+		if got := r.Second(); got != l[min(at+1, len(l)-1)] || r.At() != at {
+			t.Fatalf("%d: %v", at, got)
+		}
+		r.Refuse()
+		if got := r.Second(); got != l[len(l)-1] {
+			t.Fatalf("%d: %v behind a fault", at, got)
+		}
+	}
+	for _, at := range []int{math.MinInt, -2, len(l), math.MaxInt - 1, math.MaxInt} {
+		if got := New(l, at).Second(); got != l[len(l)-1] {
+			t.Fatalf("%d: %v", at, got)
+		}
+		if got := New(nil, at).Second(); got != (api.Tok{}) {
+			t.Fatalf("%d: %v", at, got)
+		}
+	}
+}
+
+func TestNeedPlain(t *testing.T) {
+	for _, name := range []string{"x", "x_1", "f$g", "$", "f$", "$g"} {
+		l := []api.Tok{tok(api.TokName, name, 0, 0), tok(api.TokName, name, 0, 2), tok(api.TokEnd, "", 0, 4)}
+		r := New(l, 1)
+		got := r.NeedPlain()
+		if !strings.Contains(name, "$") {
+			if got != name || r.Failed() || r.At() != 2 {
+				t.Fatal(name, r.Fault())
+			}
+			r.RefuseParts(l[0])
+			if r.Failed() {
+				t.Fatal(name, r.Fault())
+			}
+			continue
+		}
+		wantFault(t, r, api.ErrName, 2)
+		r = New(l, 1)
+		r.RefuseParts(l[0])
+		wantFault(t, r, api.ErrName, 0)
+	}
+	for at, token := range some() {
+		if token.Kind == api.TokName {
+			continue
+		}
+		r := New(some(), at)
+		code := api.ErrToken
+		if token.Kind == api.TokNote {
+			code = api.ErrPlace
+		}
+		if got := r.NeedPlain(); got != "" || r.At() != at {
+			t.Fatal(token, got)
+		}
+		wantFault(t, r, code, token.Pos.At)
 	}
 }
